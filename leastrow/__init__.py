@@ -1,0 +1,1 @@
+"""Leastrow: the cheapest rows of steps that do what is wished."""
