@@ -1,6 +1,7 @@
 """The package's own files keep to the small part of Python that they are written in.
 
-Not every rule can be seen here; those that can are held by the numbers of ../shared/LANGUAGE.md.
+Of the rules of ../shared/LANGUAGE.md these are looked at, some of them only in part: L1 to L8, L10, L12, L14 to L17,
+L20, L25, L27. The others are kept by reading.
 """
 
 import ast
