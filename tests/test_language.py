@@ -1,7 +1,7 @@
 """The package's own files keep to the small part of Python that they are written in.
 
 Of the rules of ../shared/LANGUAGE.md these are looked at, some of them only in part: L1 to L8, L10, L12, L14 to L17,
-L20, L25, L27. The others are kept by reading.
+L20, L23 to L25, L27. The others are kept by reading.
 """
 
 import ast
@@ -42,6 +42,9 @@ OUT_WORDS = re.compile(
     r"\b(type|typing|typing_extensions|enum|Enum|IntEnum|StrEnum|Flag|IntFlag|Generic|Protocol|ABC|ABCMeta|namedtuple"
     r"|NamedTuple|TypedDict|TYPE_CHECKING|abstractmethod)\b|dataclass|overload|contextmanager"
 )
+
+WALKED = ["zip", "enumerate", "reversed", "range", "items", "keys", "values"]
+WALKERS = ["list", "tuple", "dict", "sorted", "sum", "any", "all", "enumerate", "zip", "min", "max", "join"]
 
 DUNDERS = ["__init__", "__eq__", "__repr__", "__str__", "__len__"]
 
@@ -144,6 +147,34 @@ def of_node(node):
                 yield "L20 is"
 
 
+def called(node):
+    """The name of what is called, of a function or a method; None where nothing is called."""
+    if not isinstance(node, ast.Call):
+        return None
+    return node.func.attr if isinstance(node.func, ast.Attribute) else ast.unparse(node.func)
+
+
+def of_walks_and_sets(tree):
+    above = {below: node for node in ast.walk(tree) for below in ast.iter_child_nodes(node)}
+    for node in ast.walk(tree):
+        over = above.get(node)
+        if called(node) in WALKED:
+            behind_in = isinstance(over, (ast.For, ast.comprehension)) and over.iter is node
+            if not behind_in and not (called(over) in WALKERS and node in over.args):
+                yield f"L23 {called(node)}"
+        if called(node) in ["set", "frozenset"] or isinstance(node, ast.Set):
+            while isinstance(over, ast.BinOp):
+                over = above[over]
+            if not isinstance(over, ast.Compare) and not (called(over) in ["sorted", "len"] and not over.keywords):
+                yield "L24 set"
+
+
+def of_imported_names(tree):
+    rows = [node for node in tree.body if isinstance(node, ast.ImportFrom)]
+    imported = [alias.name for row in rows for alias in row.names]
+    return [f"L15 name {name}" for name in bound_names(tree) if name in imported]
+
+
 def of_imports(tree):
     for node in ast.walk(tree):
         if not isinstance(node, ast.ImportFrom):
@@ -178,7 +209,7 @@ def of_attributes(tree, own):
 def faults_of(text, own=()):
     tree = ast.parse(text)
     faults = of_text(text) + of_names(tree) + of_top(tree) + list(of_imports(tree))
-    faults += list(of_attributes(tree, list(own)))
+    faults += list(of_attributes(tree, list(own))) + list(of_walks_and_sets(tree)) + of_imported_names(tree)
     return faults + [fault for node in ast.walk(tree) for fault in of_node(node)]
 
 
@@ -217,6 +248,9 @@ class Language(unittest.TestCase):
             "def one(_a):\n    return _a\n", "def one(id):\n    return id\n", "# a type\n", "ONE = 1.5\n", "\t\n",
             "def one(a):\n    return {b for b in a}\n", "def one(a):\n    with a:\n        pass\n", "# " + "a" * 119 + "\n",
             "class One:\n    two = 1\n", "def one(a):\n    return [c for b in a for c in b]\n",
-            "def one():\n" + "    pass\n" * 40,
+            "def one():\n" + "    pass\n" * 40, "def one(a):\n    b = zip(a, a)\n", "def one(a):\n    b = a.items()\n",
+            "def one(a):\n    b = set(a)\n", "def one(a):\n    for b in set(a):\n        pass\n",
+            "def one(a):\n    return sorted(set(a), reverse=True)\n", "def one(a):\n    return len(range(a))\n",
+            "from leastrow.sizes import is_size\n\n\ndef one(is_size):\n    return is_size\n",
         ]:
             self.assertNotEqual(faults_of(text), [], text)
