@@ -1,6 +1,6 @@
 """What several tests need: sizes, steps and stocks, things of every other kind, and looks at what is handed and told."""
 
-import copy
+import itertools
 
 SIZES = [
     (1, 1), (1, 2), (1, 3), (1, 4), (1, 5), (1, 6),
@@ -35,6 +35,33 @@ def some_stocks(size):
     return stocks
 
 
+def some_rows(stock):
+    """Rows without steps, of one step, of a few, and of forty."""
+    many = len(stock)
+    return [
+        (), (0,), (many - 1,), (0, many - 1), (many - 1, 0), tuple(range(many)), tuple(range(many))[::-1],
+        (0,) * 40, (many - 1,) * 40, tuple(place * 3 % many for place in range(40)),
+    ]
+
+
+def every_filling(size):
+    return list(itertools.product(range(2 ** size[0]), repeat=size[1]))
+
+
+def some_tables(size):
+    """Tables that no row need make: each filling itself, turned about, one for all, and mixed ones."""
+    every = every_filling(size)
+    many = len(every)
+    mixed = [tuple(every[(place * place + shift) % many] for place in range(many)) for shift in range(3)]
+    return [tuple(every), tuple(every[::-1]), tuple(every[1:] + every[:1]), (every[-1],) * many] + mixed
+
+
+def looked_at(size):
+    """Every list of boxes that may be looked at, and None."""
+    boxes = range(size[1])
+    return [None] + [list(some) for many in range(size[1] + 1) for some in itertools.combinations(boxes, many)]
+
+
 def no_whole_numbers():
     """Things of every kind that are no whole number, made anew each time."""
     return [
@@ -51,8 +78,6 @@ def no_tuples():
 
 def lists_within(thing):
     """Every list in a thing, the thing itself included, each as often as it stands there."""
-    if isinstance(thing, dict):
-        return [found for part in thing.values() for found in lists_within(part)]
     if not isinstance(thing, (list, tuple)):
         return []
     inner = [found for part in thing for found in lists_within(part)]
@@ -60,21 +85,18 @@ def lists_within(thing):
 
 
 def same_kinds(one, other):
-    """Equal, and of the same kinds all the way down: so that 1 isn't True, nor a list a tuple."""
-    if type(one) is not type(other):
-        return False
-    if isinstance(one, (list, tuple)):
-        return len(one) == len(other) and all(same_kinds(a, b) for a, b in zip(one, other))
-    return one == other
+    """Equal, and written alike: so that 1 isn't True, nor a list a tuple."""
+    return one == other and repr(one) == repr(other)
 
 
 def told_of(test, asked, *handed):
     """What is told; seen to that what is handed in stays, that it is told again, and that lists are the asker's own."""
-    before = copy.deepcopy(handed)
+    before = repr(handed)
     first = asked(*handed)
-    test.assertTrue(same_kinds(handed, before), (asked, before))
-    kept = copy.deepcopy(first)
     again = asked(*handed)
+    test.assertEqual(repr(handed), before, asked)
+    wanted = repr(first)
+    test.assertEqual(repr(again), wanted, (asked, before))
     lists = lists_within(first) + lists_within(again)
     places = {id(found) for found in lists}
     test.assertEqual(len(places), len(lists), (asked, before))
@@ -82,6 +104,7 @@ def told_of(test, asked, *handed):
     for found in lists:
         found.clear()
         found.append("spoiled")
-    test.assertTrue(same_kinds(handed, before), (asked, before))
-    test.assertTrue(same_kinds(asked(*handed), kept), (asked, before))
-    return kept
+    test.assertEqual(repr(handed), before, asked)
+    told = asked(*handed)
+    test.assertEqual(repr(told), wanted, (asked, before))
+    return told

@@ -4,18 +4,9 @@ import unittest
 from leastrow.rows import is_less, price_of, row_on
 from leastrow.sizes import fillings
 from leastrow.steps import step_on
-from tests.helper import SIZES, some_stocks, told_of
+from tests.helper import SIZES, some_rows, some_stocks, told_of
 
 STOCK = [(("add", 0, 1), 2), (("not", 0), 1), (("copy", 1, 0), 9)]
-
-
-def some_rows(stock):
-    """Rows without steps, of one step, of a few, and of forty."""
-    many = len(stock)
-    return [
-        (), (0,), (many - 1,), (0, many - 1), (many - 1, 0), tuple(range(many)), tuple(range(many))[::-1],
-        (0,) * 40, (many - 1,) * 40, tuple(place * 3 % many for place in range(40)),
-    ]
 
 
 class PriceOf(unittest.TestCase):
