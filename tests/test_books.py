@@ -64,6 +64,20 @@ class BookOf(unittest.TestCase):
         prices = prices_of_tables(size, stock, bound)
         self.assertEqual({table: price for price, _, table in book}, prices)
         self.assertEqual(len(book), len(prices))
+        self.assertEqual({table: (price, len(row), row) for price, row, table in book}, self.least_of(size, stock, book))
+
+    def least_of(self, size, stock, book):
+        """For each table the least of the book's rows with a step behind them: so none of any kind is less."""
+        least = {tuple(every_filling(size)): (0, 0, ())}
+        moves = [dict(zip(every_filling(size), with_step(size, step, every_filling(size)))) for step, _ in stock]
+        tables = {table for _, _, table in book}
+        for price, row, table in book:
+            for number, move in enumerate(moves):
+                made = tuple([move[filling] for filling in table])
+                rank = (price + stock[number][1], len(row) + 1, row + (number,))
+                if made in tables:
+                    least[made] = min(least.get(made, rank), rank)
+        return least
 
     def test_written_out(self):
         stock = [(("up", 0), 1), (("not", 0), 2), (("put", 0, 0), 2)]
