@@ -13,6 +13,10 @@ def numbers_of_step(size, step):
     return tuple([number_of(size, step_on(size, step, filling)) for filling in fillings(size)])
 
 
+def moves_of(size, stock):
+    return [(price, numbers_of_step(size, step)) for step, price in stock]
+
+
 def numbers_behind(one, other):
     return tuple([other[number] for number in one])
 
@@ -53,6 +57,5 @@ def table_from(every, numbers):
 
 def book_of(size, stock, bound):
     every = fillings(size)
-    moves = [(price, numbers_of_step(size, step)) for step, price in stock]
-    found = found_rows(moves, bound, tuple(range(len(every))))
+    found = found_rows(moves_of(size, stock), bound, tuple(range(len(every))))
     return [(price, row, table_from(every, numbers)) for price, row, numbers in found]

@@ -1,6 +1,12 @@
 """Rows of a stock's steps: what they cost, what they make of a filling, which of two is less."""
 
+from leastrow.sizes import is_whole
 from leastrow.steps import step_on
+
+
+# A number below nought would count from the stock's end for Python, but tells no step here.
+def is_row(stock, numbers):
+    return all([is_whole(number) and 0 <= number < len(stock) for number in numbers])
 
 
 def price_of(stock, row):

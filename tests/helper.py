@@ -1,6 +1,9 @@
 """What several tests need: sizes, steps and stocks, things of every other kind, and looks at what is handed and told."""
 
 import itertools
+import random
+
+from leastrow.steps import step_on
 
 SIZES = [
     (1, 1), (1, 2), (1, 3), (1, 4), (1, 5), (1, 6),
@@ -12,6 +15,18 @@ SIZES = [
 PAIR_WORDS = ["and", "or", "xor", "add", "take", "copy"]
 LONE_WORDS = ["not", "up", "down"]
 STEP_WORDS = PAIR_WORDS + ["put"] + LONE_WORDS
+
+# Up to 34 it makes just five hundred tables, up to 35 one more.
+FIVE_HUNDRED = [(("take", 2, 1), 4), (("take", 1, 0), 1), (("take", 1, 1), 9), (("add", 1, 2), 4), (("take", 0, 1), 5)]
+
+# However dear a row may be, it makes one of five hundred tables.
+CLOSED = [
+    (("copy", 0, 2), 1), (("down", 2), 3), (("xor", 0, 1), 2), (("add", 0, 0), 8), (("add", 1, 1), 7), (("up", 1), 1),
+    (("or", 1, 0), 3), (("copy", 1, 2), 1),
+]
+
+# Up to 30 it makes just six hundred tables, up to 26 fewer than five hundred, up to 27 more.
+SIX_HUNDRED = [(("add", 1, 2), 3), (("or", 0, 1), 4), (("xor", 1, 0), 4), (("and", 2, 1), 2)]
 
 
 def all_steps(size):
@@ -74,6 +89,65 @@ def no_tuples():
     """Things of every kind that are no tuple, made anew each time."""
     others = [thing for thing in no_whole_numbers() if not isinstance(thing, tuple)]
     return others + [0, 1, -1, 6, 10 ** 100, "not 0", [[]], [()], [None], {(1, 1): (1, 1)}]
+
+
+def some_wishes(size):
+    """Wishes of None alone, of all fillings, of one, and mixed ones."""
+    every = every_filling(size)
+    chance = random.Random(size[0] * 10 + size[1])
+    wishes = [[None] * len(every), [list(every) for _ in every], [[filling] for filling in every], [[every[0]] for _ in every]]
+    for _ in range(4):
+        mixed = [sorted(chance.sample(every, chance.randint(1, len(every)))) for _ in every]
+        wishes.append(mixed)
+        wishes.append([None if chance.randrange(3) == 0 else list(some) for some in mixed])
+    return wishes
+
+
+def with_step(size, step, table):
+    return tuple([step_on(size, step, filling) for filling in table])
+
+
+def by_all_rows(size, stock, bound):
+    """The book by going through each row up to the bound."""
+    least = {}
+    rows = [(0, 0, (), tuple(every_filling(size)))]
+    while rows:
+        price, many, row, table = rows.pop()
+        least[table] = min(least.get(table, (price, many, row)), (price, many, row))
+        for number, (step, more) in enumerate(stock):
+            if price + more <= bound:
+                rows.append((price + more, many + 1, row + (number,), with_step(size, step, table)))
+    return [(price, row, table) for (price, _, row), table in sorted((rank, table) for table, rank in least.items())]
+
+
+def prices_of_tables(size, stock, bound):
+    """Each table with its least price, by what the rows of each price make; no row is kept."""
+    moves = [(price, dict(zip(every_filling(size), with_step(size, step, every_filling(size))))) for step, price in stock]
+    made = {0: {tuple(every_filling(size))}}
+    prices = {}
+    for price in range(bound + 1):
+        for table in made.get(price, ()):
+            prices.setdefault(table, price)
+            for more, move in moves:
+                made.setdefault(price + more, set()).add(tuple([move[filling] for filling in table]))
+    return prices
+
+
+def whole_book(size, stock, bound):
+    """The book, however many tables it has, by what is ready at each price."""
+    every = every_filling(size)
+    moves = [dict(zip(every, with_step(size, step, every))) for step, _ in stock]
+    ready = {0: [(0, (), tuple(every))]}
+    least = {}
+    for price in range(bound + 1):
+        for many, row, table in sorted(ready.get(price, [])):
+            if table in least:
+                continue
+            least[table] = (price, row, table)
+            for number, move in enumerate(moves):
+                longer = (many + 1, row + (number,), tuple([move[filling] for filling in table]))
+                ready.setdefault(price + stock[number][1], []).append(longer)
+    return list(least.values())
 
 
 def lists_within(thing):

@@ -4,49 +4,9 @@ import unittest
 from leastrow.books import book_of
 from leastrow.errors import TooGreat
 from leastrow.rows import is_less, price_of
-from leastrow.steps import step_on
 from leastrow.tables import table_of
-from tests.helper import SIZES, all_steps, every_filling, same_kinds, some_stocks, told_of
-
-# Up to 34 it makes just five hundred tables, up to 35 one more.
-FIVE_HUNDRED = [(("take", 2, 1), 4), (("take", 1, 0), 1), (("take", 1, 1), 9), (("add", 1, 2), 4), (("take", 0, 1), 5)]
-
-# However dear a row may be, it makes one of five hundred tables.
-CLOSED = [
-    (("copy", 0, 2), 1), (("down", 2), 3), (("xor", 0, 1), 2), (("add", 0, 0), 8), (("add", 1, 1), 7), (("up", 1), 1),
-    (("or", 1, 0), 3), (("copy", 1, 2), 1),
-]
-
-
-def with_step(size, step, table):
-    return tuple([step_on(size, step, filling) for filling in table])
-
-
-def by_all_rows(size, stock, bound):
-    """The book by going through each row up to the bound."""
-    least = {}
-    rows = [(0, 0, (), tuple(every_filling(size)))]
-    while rows:
-        price, many, row, table = rows.pop()
-        least[table] = min(least.get(table, (price, many, row)), (price, many, row))
-        for number, (step, more) in enumerate(stock):
-            if price + more <= bound:
-                rows.append((price + more, many + 1, row + (number,), with_step(size, step, table)))
-    return [(price, row, table) for (price, _, row), table in sorted((rank, table) for table, rank in least.items())]
-
-
-def prices_of_tables(size, stock, bound):
-    """Each table with its least price, by what the rows of each price make; no row is kept."""
-    moves = [(price, dict(zip(every_filling(size), with_step(size, step, every_filling(size))))) for step, price in stock]
-    made = {0: {tuple(every_filling(size))}}
-    prices = {}
-    for price in range(bound + 1):
-        for table in made.get(price, ()):
-            prices.setdefault(table, price)
-            for more, move in moves:
-                made.setdefault(price + more, set()).add(tuple([move[filling] for filling in table]))
-    return prices
-
+from tests.helper import CLOSED, FIVE_HUNDRED, SIZES, all_steps, by_all_rows, every_filling, prices_of_tables, same_kinds
+from tests.helper import some_stocks, told_of, with_step
 
 class BookOf(unittest.TestCase):
     def refused(self, size, stock, bound):

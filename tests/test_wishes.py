@@ -5,7 +5,7 @@ import unittest
 from leastrow.errors import NoWish
 from leastrow.tables import parts_at
 from leastrow.wishes import both_wishes, does_wish, is_loose, misses_at, wish_like
-from tests.helper import SIZES, every_filling, looked_at, same_kinds, some_tables, told_of
+from tests.helper import SIZES, every_filling, looked_at, same_kinds, some_tables, some_wishes, told_of
 
 ITSELF = ((0, 0), (0, 1), (1, 0), (1, 1))
 
@@ -14,18 +14,6 @@ def choices(size):
     """None, and every list of fillings that may stand in a wish."""
     every = every_filling(size)
     return [None] + [list(some) for many in range(1, len(every) + 1) for some in itertools.combinations(every, many)]
-
-
-def some_wishes(size):
-    """Wishes of None alone, of all fillings, of one, and mixed ones."""
-    every = every_filling(size)
-    chance = random.Random(size[0] * 10 + size[1])
-    wishes = [[None] * len(every), [list(every) for _ in every], [[filling] for filling in every], [[every[0]] for _ in every]]
-    for _ in range(4):
-        mixed = [sorted(chance.sample(every, chance.randint(1, len(every)))) for _ in every]
-        wishes.append(mixed)
-        wishes.append([None if chance.randrange(3) == 0 else list(some) for some in mixed])
-    return wishes
 
 
 def first_missed(size, wish, table):
