@@ -39,6 +39,33 @@ def all_steps(size):
     return steps
 
 
+def size_lines():
+    return {f"bits {bits} boxes {boxes}": (bits, boxes) for bits, boxes in SIZES}
+
+
+def step_lines(size):
+    """Every line of a step that the size has, written out."""
+    lines = {}
+    for step in all_steps(size):
+        numbers = " ".join(str(number) for number in step[1:])
+        for price in "123456789":
+            lines[f"{step[0]} {numbers} price {price}"] = step
+    return lines
+
+
+LINES_OF = {size: step_lines(size) for size in SIZES}
+
+
+def with_one_sign_other(text):
+    """The text with each sign left out, and with each of some signs ahead of it or in its place."""
+    signs = [" ", "\n", "0", "1", "2", "9", "a", "n", "p", "-", "+", "_", ".", ",", "~"]
+    for place in range(len(text) + 1):
+        yield text[:place] + text[place + 1:]
+        for sign in signs:
+            yield text[:place] + sign + text[place:]
+            yield text[:place] + sign + text[place + 1:]
+
+
 def some_stocks(size):
     """Stocks of one step to eight, with prices from 1 to 9, of steps from all over the size."""
     steps = all_steps(size)
@@ -48,6 +75,12 @@ def some_stocks(size):
         stocks.append([(step, 1 + (many * place + 4) % 9) for place, step in enumerate(steps[::apart][:many])])
         stocks.append([(step, 1 + place % 3) for place, step in enumerate(steps[::-apart][:many])])
     return stocks
+
+
+def small_stock(size):
+    """A stock of five steps of which windows of few steps have small books."""
+    last = size[1] - 1
+    return [(("not", 0), 2), (("copy", last, 0), 3), (("put", 0, 1), 4), (("up", last), 1), (("and", last, 0), 2)]
 
 
 def some_rows(stock):
@@ -148,6 +181,25 @@ def whole_book(size, stock, bound):
                 longer = (many + 1, row + (number,), tuple([move[filling] for filling in table]))
                 ready.setdefault(price + stock[number][1], []).append(longer)
     return list(least.values())
+
+
+def piece_of(size, stock, row, place, many, looked, book):
+    """The first row of the book in a window's place by which the whole row tells the same; None where there is none."""
+    every = every_filling(size)
+    boxes = range(size[1]) if looked is None else looked
+
+    def seen(steps, fillings):
+        for number in steps:
+            fillings = with_step(size, stock[number][0], fillings)
+        return fillings
+
+    ahead = seen(row[:place], every)
+    wanted = seen(row[place:], ahead)
+    for _, piece, _ in book:
+        told = seen(piece + row[place + many:], ahead)
+        if all(one[box] == other[box] for one, other in zip(told, wanted) for box in boxes):
+            return piece
+    return None
 
 
 def lists_within(thing):

@@ -3,27 +3,10 @@ import unittest
 from leastrow.errors import NoText
 from leastrow.stocks import is_stock
 from leastrow.stocktexts import read_stock, show_stock
-from tests.helper import SIZES, STEP_WORDS, all_steps, same_kinds, some_stocks, told_of
+from tests.helper import LINES_OF, SIZES, STEP_WORDS, same_kinds, size_lines, some_stocks, told_of, with_one_sign_other
 
 GOOD = "bits 2 boxes 2\nadd 0 1 price 2\nnot 0 price 1"
 GOOD_STOCK = [(("add", 0, 1), 2), (("not", 0), 1)]
-
-
-def size_lines():
-    return {f"bits {bits} boxes {boxes}": (bits, boxes) for bits, boxes in SIZES}
-
-
-def step_lines(size):
-    """Every line of a step that the size has, written out."""
-    lines = {}
-    for step in all_steps(size):
-        numbers = " ".join(str(number) for number in step[1:])
-        for price in "123456789":
-            lines[f"{step[0]} {numbers} price {price}"] = step
-    return lines
-
-
-LINES_OF = {size: step_lines(size) for size in SIZES}
 
 
 def first_wrong_line(text):
@@ -39,15 +22,6 @@ def first_wrong_line(text):
             return number
         told.append(step)
     return None if told else 1
-
-
-def with_one_sign_other(text):
-    signs = [" ", "\n", "0", "1", "2", "9", "a", "n", "p", "-", "+", "_", ".", ",", "~"]
-    for place in range(len(text) + 1):
-        yield text[:place] + text[place + 1:]
-        for sign in signs:
-            yield text[:place] + sign + text[place:]
-            yield text[:place] + sign + text[place + 1:]
 
 
 class ShowStock(unittest.TestCase):
